@@ -1,0 +1,1 @@
+"""Risingsays: linear sayings told once and meant for every rising choice of places."""

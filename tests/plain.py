@@ -1,0 +1,191 @@
+"""The document's words done over again, slowly and plainly, to be compared with the program."""
+
+import random
+from fractions import Fraction
+from functools import cmp_to_key
+from itertools import combinations
+from math import gcd
+
+KINDS_LOTS = ((0,), (1,), (2,), (3,), (1, 2), (2, 2), (0, 1), (0, 3), (3, 1, 0), (1, 1, 2), (0, 1, 2, 3),
+              (0, 0, 1, 1, 2, 2, 3, 3))
+
+
+def dice(seed):
+    return random.Random(seed)
+
+
+def compare_unknowns(one, other):
+    """Below 0 if the first unknown is the lesser one, above 0 if it is the greater one."""
+    unlike = set(one[1]) ^ set(other[1])
+    if unlike:
+        return 1 if max(unlike) in one[1] else -1
+    return one[0] - other[0]
+
+
+UNKNOWN_KEY = cmp_to_key(compare_unknowns)
+
+
+def unknowns(kinds, many):
+    found = [(kind, places) for kind in range(len(kinds)) for places in combinations(range(many), kinds[kind])]
+    return tuple(sorted(found, key=UNKNOWN_KEY))
+
+
+def value_in(field, number):
+    """A fraction as a number of the field, whose fractions have no multiple of the prime below."""
+    number = Fraction(number)
+    if field:
+        return Fraction(number.numerator * pow(number.denominator, -1, field) % field)
+    return number
+
+
+def number(fraction):
+    """The NUMBER that is a fraction; modulo primes they are integers."""
+    return (fraction.numerator, fraction.denominator)
+
+
+def row_of(terms):
+    return {(kind, places): Fraction(coef) for coef, kind, places in terms}
+
+
+def carry_row(row, places):
+    return {(kind, tuple(places[at] for at in spots)): coef for (kind, spots), coef in row.items()}
+
+
+def add_rows(field, one, other, factor):
+    out = dict(one)
+    for unknown, coef in other.items():
+        out[unknown] = value_in(field, out.get(unknown, 0) + factor * coef)
+    return {unknown: coef for unknown, coef in out.items() if coef != 0}
+
+
+def terms_of(row):
+    """TERMS of a row of integers."""
+    ordered = sorted(row, key=UNKNOWN_KEY, reverse=True)
+    return tuple((int(row[unknown]), unknown[0], unknown[1]) for unknown in ordered)
+
+
+def whole_terms(field, row):
+    if not row:
+        return ()
+    lead = max(row, key=UNKNOWN_KEY)
+    monic = {unknown: value_in(field, coef / row[lead]) if not field
+             else value_in(field, coef * pow(int(row[lead]), -1, field)) for unknown, coef in row.items()}
+    if field:
+        return terms_of(monic)
+    below = 1
+    for coef in monic.values():
+        below = below * coef.denominator // gcd(below, coef.denominator)
+    whole = {unknown: int(coef * below) for unknown, coef in monic.items()}
+    common = 0
+    for coef in whole.values():
+        common = gcd(common, coef)
+    return terms_of({unknown: coef // common for unknown, coef in whole.items()})
+
+
+def some_coef(field, rnd, most=4):
+    if field:
+        return rnd.randint(1, field - 1)
+    return rnd.choice([n for n in range(-most, most + 1) if n])
+
+
+def some_terms(field, kinds, many, rnd, most=4, coef=4):
+    there = unknowns(kinds, many)
+    size = min(len(there), rnd.randint(0, most))
+    return terms_of({unknown: some_coef(field, rnd, coef) for unknown in rnd.sample(there, size)})
+
+
+def some_saying(field, kinds, rnd, widths=(1, 2, 3), most=3):
+    while True:
+        width = rnd.choice(widths)
+        terms = some_terms(field, kinds, width, rnd, most)
+        if terms:
+            return (width, terms)
+
+
+def some_book(field, kinds, rnd, size, widths=(1, 2, 3), most=3):
+    return (field, kinds, tuple(some_saying(field, kinds, rnd, widths, most) for _ in range(size)))
+
+
+def reduce_row(field, pivots, row):
+    """What is left of a row behind elimination by rows whose leads are unlike, the greatest unknowns first."""
+    row = dict(row)
+    for unknown in sorted(unknowns_in(row, pivots), key=UNKNOWN_KEY, reverse=True):
+        if unknown in row and unknown in pivots:
+            row = add_rows(field, row, pivots[unknown], -row[unknown])
+    return row
+
+
+def unknowns_in(row, pivots):
+    found = set(row)
+    for pivot in pivots.values():
+        found |= set(pivot)
+    return found
+
+
+def made_pivots(book, many):
+    """Monic rows with unlike leads, whose sums are just what is MADE of the book on so many places."""
+    field, kinds, sayings = book
+    pivots = {}
+    for width, terms in sayings:
+        for places in combinations(range(many), width):
+            row = reduce_row(field, pivots, carry_row(row_of(terms), places))
+            if row:
+                lead = max(row, key=UNKNOWN_KEY)
+                factor = value_in(field, 1 / row[lead]) if not field else Fraction(pow(int(row[lead]), -1, field))
+                pivots[lead] = {unknown: value_in(field, coef * factor) for unknown, coef in row.items()}
+    return pivots
+
+
+def is_made(book, many, terms):
+    return not reduce_row(book[0], made_pivots(book, many), row_of(terms))
+
+
+def gaps(many, places):
+    """How many places are ahead of, between and behind the places, counted one by one."""
+    out = [0] * (len(places) + 1)
+    for place in range(many):
+        if place not in places:
+            out[len([at for at in places if at < place])] += 1
+    return tuple(out)
+
+
+def can_be_carried(width, places, many, spots):
+    """Whether some rising map of width places into many leads the places to the spots."""
+    return any(tuple(chosen[at] for at in places) == spots for chosen in combinations(range(many), width))
+
+
+def comes_to(book, table, many, terms):
+    at = {unknown: Fraction(*number) for unknown, number in zip(unknowns(book[1], many), table)}
+    return value_in(book[0], sum((coef * at[(kind, places)] for coef, kind, places in terms), Fraction(0)))
+
+
+def broken_at(book, many, table):
+    for index, (width, terms) in enumerate(book[2]):
+        for places in sorted(combinations(range(many), width)):
+            if comes_to(book, table, many, terms_of(carry_row(row_of(terms), places))) != 0:
+                return (index, places)
+    return None
+
+
+def some_number(field, rnd, most=5):
+    if field:
+        return (rnd.randrange(field), 1)
+    return number(Fraction(rnd.randint(-most, most), rnd.randint(1, 3)))
+
+
+def some_table(book, many, rnd):
+    return tuple(some_number(book[0], rnd) for _ in unknowns(book[1], many))
+
+
+def kept_table(book, many, rnd):
+    """A table that keeps the book: free numbers by chance, the others told by the rows with their leads."""
+    field, kinds, _ = book
+    pivots = made_pivots(book, many)
+    at = {}
+    for unknown in unknowns(kinds, many):
+        if unknown in pivots:
+            rest = sum((coef * at[other] for other, coef in pivots[unknown].items() if other != unknown), Fraction(0))
+            at[unknown] = value_in(field, -rest)
+        else:
+            at[unknown] = Fraction(*some_number(field, rnd))
+    return tuple(number(at[unknown]) for unknown in unknowns(kinds, many))

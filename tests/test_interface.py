@@ -1,0 +1,73 @@
+"""[1] The interface: names, parameters, files; and the form of the files."""
+
+import ast
+import importlib
+import inspect
+import os
+import unittest
+
+HERE = os.path.dirname(os.path.abspath(__file__))
+PACKAGE = os.path.join(os.path.dirname(HERE), "risingsays")
+
+INTERFACE = {
+    "errors": ("BadBook(place)", "BadSaying(place)", "BadTable(place)", "BadTerms(place)", "BadPaper(place)",
+               "BadDeed(place)", "BadParameter(value)", "TooGreat(most)"),
+    "sayings": ("unknowns(kinds, many)", "need_terms(field, kinds, many, terms)", "need_saying(field, kinds, saying)",
+                "need_book(book)", "carried(field, kinds, places, terms)", "whole(field, kinds, many, terms)",
+                "added(field, kinds, many, terms, others, factor)", "turned(field, kinds, saying, order)",
+                "mirrored(field, kinds, saying)"),
+    "numbers": ("number_of(field, above, below)", "need_number(field, value)", "plus(field, one, other)",
+                "minus(field, one, other)", "times(field, one, other)", "over(field, one, other)"),
+}
+
+
+def sources():
+    for name in sorted(os.listdir(PACKAGE)):
+        if name.endswith(".py"):
+            with open(os.path.join(PACKAGE, name), encoding="utf-8") as file:
+                yield name, file.read()
+
+
+class Interface(unittest.TestCase):
+    def test_each_name_stands_in_its_file_with_its_parameters(self):
+        for file, calls in INTERFACE.items():
+            module = importlib.import_module("risingsays." + file)
+            for call in calls:
+                name, rest = call[:-1].split("(")
+                made = getattr(module, name)
+                self.assertEqual(made.__module__, module.__name__, call)
+                parameters = list(inspect.signature(made).parameters.values())
+                self.assertEqual([one.name for one in parameters], rest.split(", "), call)
+                for one in parameters:
+                    self.assertEqual(one.kind, one.POSITIONAL_OR_KEYWORD, call)
+                    self.assertIs(one.default, one.empty, call)
+
+
+class Form(unittest.TestCase):
+    def test_sizes_and_signs(self):
+        for name, text in sources():
+            lines = text.split("\n")
+            self.assertLess(len(lines), 400, name)
+            for line in lines:
+                self.assertLessEqual(len(line), 120, name)
+                self.assertTrue(all(" " <= sign <= "~" for sign in line), (name, line))
+            for node in ast.walk(ast.parse(text)):
+                if isinstance(node, ast.FunctionDef):
+                    self.assertLessEqual(node.end_lineno - node.lineno + 1, 40, (name, node.name))
+
+    def test_imports(self):
+        for name, text in sources():
+            for node in ast.walk(ast.parse(text)):
+                self.assertNotIsInstance(node, ast.Import, name)
+                if isinstance(node, ast.ImportFrom):
+                    self.assertEqual(node.level, 0, name)
+                    self.assertTrue(node.module in ("math", "itertools", "heapq")
+                                    or node.module.startswith("risingsays."), (name, node.module))
+
+    def test_nothing_else_is_in_the_folder(self):
+        for name in os.listdir(PACKAGE):
+            self.assertTrue(name.endswith(".py") or name == "__pycache__", name)
+
+
+if __name__ == "__main__":
+    unittest.main()
