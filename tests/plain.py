@@ -95,11 +95,11 @@ def some_terms(field, kinds, many, rnd, most=4, coef=4):
 
 
 def some_saying(field, kinds, rnd, widths=(1, 2, 3), most=3):
-    while True:
-        width = rnd.choice(widths)
+    width = rnd.choice([width for width in widths if width >= min(kinds)])
+    terms = ()
+    while not terms:
         terms = some_terms(field, kinds, width, rnd, most)
-        if terms:
-            return (width, terms)
+    return (width, terms)
 
 
 def some_book(field, kinds, rnd, size, widths=(1, 2, 3), most=3):

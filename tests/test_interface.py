@@ -18,6 +18,14 @@ INTERFACE = {
                 "mirrored(field, kinds, saying)"),
     "numbers": ("number_of(field, above, below)", "need_number(field, value)", "plus(field, one, other)",
                 "minus(field, one, other)", "times(field, one, other)", "over(field, one, other)"),
+    "tables": ("need_table(book, many, table)", "worth(book, many, table, terms)", "first_broken(book, many, table)",
+               "keeps(book, many, table)", "nought_table(book, many)", "table_sum(book, many, table, other, factor)",
+               "table_part(book, many, table, places)"),
+    "gaps": ("gaps_of(many, places)", "places_of(gaps)", "reaches(gaps, others)", "least_rows(rows)", "joined(rows)",
+             "counted(rows, arity, many)"),
+    "formulas": ("formula_of(rows, arity)", "value_at(formula, many)", "formula_plus(one, other)",
+                 "formula_minus(one, other)", "equal_from(one, other)"),
+    "bringing": ("brought(book, many, terms)", "overlaps(book)", "is_closed(book)"),
 }
 
 
