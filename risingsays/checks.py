@@ -38,6 +38,11 @@ def is_rising(value, many):
     return True
 
 
+def is_map(value, width, many):
+    """Tell whether a value is a rising map of so many places into many."""
+    return is_tuple(value, width, width) and is_rising(value, many)
+
+
 def is_prime(number):
     """Tell whether an integer up to 997 is a prime."""
     for prime in LOW_PRIMES:

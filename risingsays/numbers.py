@@ -129,6 +129,8 @@ def product_of(field, one, other):
 
 def quotient_of(field, one, other):
     """Return one NUMBER divided by another one that is not nought, both checked."""
+    if other == ONE:
+        return one
     return divided(field, one[0] * other[1], one[1] * other[0])
 
 

@@ -4,7 +4,7 @@ from itertools import combinations
 from math import comb, gcd
 
 from risingsays.checks import MOST_KINDS, MOST_PLACES
-from risingsays.checks import is_field, is_rising, is_tuple, is_within, wrong_in_kinds
+from risingsays.checks import is_field, is_map, is_tuple, is_within, wrong_in_kinds
 from risingsays.checks import need_field, need_kinds, need_many, need_rising
 from risingsays.errors import BadBook, BadParameter, BadSaying, BadTerms, TooGreat
 from risingsays.numbers import inverse, is_coef, need_number
@@ -12,6 +12,9 @@ from risingsays.numbers import inverse, is_coef, need_number
 MOST_WIDTH = 6
 MOST_SAYINGS = 60
 MOST_UNKNOWNS = 400
+
+# Greater than the rank of each unknown on up to 40 places.
+AHEAD = 1 << 50
 
 
 def unknowns(kinds, many):
@@ -101,6 +104,12 @@ def need_few_unknowns(kinds, many):
         raise TooGreat(MOST_UNKNOWNS)
 
 
+def need_few_sayings(sayings):
+    """Refuse more sayings than a book may have."""
+    if len(sayings) > MOST_SAYINGS:
+        raise TooGreat(MOST_SAYINGS)
+
+
 def rising_maps(width, many):
     """Return all rising maps of width places into many, ascending."""
     return list(combinations(range(many), width))
@@ -122,6 +131,13 @@ def term_rank(term):
     return rank(term[1], term[2])
 
 
+def rank_with(ahead, kind, places):
+    """Return the rank of an unknown where all unknowns of the kinds ahead are greater than all others."""
+    if kind in ahead:
+        return AHEAD + rank(kind, places)
+    return rank(kind, places)
+
+
 def all_unknowns(kinds, many):
     """Return all unknowns, the least one first, without a bound."""
     found = [(kind, places) for kind, arity in enumerate(kinds) for places in rising_maps(arity, many)]
@@ -135,7 +151,7 @@ def is_term(field, kinds, many, value):
     coef, kind, places = value
     if not is_coef(field, coef) or not is_within(kind, 0, len(kinds) - 1):
         return False
-    return is_tuple(places, kinds[kind], kinds[kind]) and is_rising(places, many)
+    return is_map(places, kinds[kind], many)
 
 
 def wrong_in_terms(field, kinds, many, terms):
@@ -216,26 +232,34 @@ def made_whole(field, terms):
     return tuple([(coef // common, kind, places) for coef, kind, places in terms])
 
 
-def whole_of_coefs(field, coefs):
-    """Return the whole terms with these integers at their unknowns, those that come to 0 left out."""
+def whole_of_coefs(field, coefs, ahead=()):
+    """Return the whole terms with these integers at their unknowns, those that come to 0 left out.
+
+    They stand, and are made whole, by the order in which the unknowns of the kinds ahead are greater than all others.
+    """
     terms = []
     for (kind, places), coef in coefs.items():
         if field:
             coef = coef % field
         if coef != 0:
             terms.append((coef, kind, places))
-    return made_whole(field, sorted(terms, key=term_rank, reverse=True))
+    return made_whole(field, sorted(terms, key=lambda term: rank_with(ahead, term[1], term[2]), reverse=True))
 
 
-def combined(field, above, terms, factor, others):
-    """Return, whole, the sum of two multiples by integers of terms that have been checked."""
+def summed_coefs(above, terms, factor, others):
+    """Return a dict with the integers at the unknowns of the sum of two multiples by integers."""
     coefs = {}
     for coef, kind, places in terms:
         coefs[(kind, places)] = above * coef
     for coef, kind, places in others:
         unknown = (kind, places)
         coefs[unknown] = coefs.get(unknown, 0) + factor * coef
-    return whole_of_coefs(field, coefs)
+    return coefs
+
+
+def combined(field, above, terms, factor, others):
+    """Return, whole, the sum of two multiples by integers of terms that have been checked."""
+    return whole_of_coefs(field, summed_coefs(above, terms, factor, others))
 
 
 def is_order(order, width):

@@ -2,7 +2,7 @@
 
 from math import comb, lcm
 
-from risingsays.checks import need_many, need_rising
+from risingsays.checks import is_tuple, need_many, need_rising
 from risingsays.errors import BadTable, NoRow, TooGreat
 from risingsays.numbers import NOUGHT, is_number, need_number, product_of, sum_of
 from risingsays.sayings import all_unknowns, count_unknowns, need_book, need_few_unknowns, need_terms, rising_maps
@@ -79,11 +79,24 @@ def need_room(book, many):
 
 def need_numbers(book, many, table):
     """Refuse what has not a number of the book's field for each unknown."""
-    if type(table) is not tuple or len(table) != count_unknowns(book[1], many):
-        raise BadTable(())
-    for at, number in enumerate(table):
-        if not is_number(book[0], number):
-            raise BadTable((at,))
+    place = wrong_in_table(book, many, table)
+    if place is not None:
+        raise BadTable(place)
+
+
+def wrong_in_table(book, many, table):
+    """Return the place at which a value is no table of a checked book, None if it is."""
+    return wrong_in_numbers(book[0], count_unknowns(book[1], many), table)
+
+
+def wrong_in_numbers(field, count, numbers):
+    """Return the place at which a value is no tuple of so many NUMBERS, None if it is."""
+    if not is_tuple(numbers, count, count):
+        return ()
+    for at, number in enumerate(numbers):
+        if not is_number(field, number):
+            return (at,)
+    return None
 
 
 def need_few_maps(book, many):

@@ -106,34 +106,66 @@ def some_book(field, kinds, rnd, size, widths=(1, 2, 3), most=3):
     return (field, kinds, tuple(some_saying(field, kinds, rnd, widths, most) for _ in range(size)))
 
 
-def reduce_row(field, pivots, row):
+def key_with(ahead):
+    """The order in which the unknowns of the kinds ahead are greater than all others."""
+    return lambda unknown: (unknown[0] in ahead, UNKNOWN_KEY(unknown))
+
+
+def reduce_row(field, pivots, row, key=UNKNOWN_KEY):
     """What is left of a row behind elimination by rows whose leads are unlike, the greatest unknowns first."""
     row = dict(row)
-    for unknown in sorted(unknowns_in(row, pivots), key=UNKNOWN_KEY, reverse=True):
-        if unknown in row and unknown in pivots:
-            row = add_rows(field, row, pivots[unknown], -row[unknown])
-    return row
+    while True:
+        there = [unknown for unknown in row if unknown in pivots]
+        if not there:
+            return row
+        unknown = max(there, key=key)
+        row = add_rows(field, row, pivots[unknown], -row[unknown])
 
 
-def unknowns_in(row, pivots):
-    found = set(row)
-    for pivot in pivots.values():
-        found |= set(pivot)
-    return found
+def inverted(field, number):
+    return Fraction(pow(int(number), -1, field)) if field else 1 / number
 
 
-def made_pivots(book, many):
+def made_pivots(book, many, key=UNKNOWN_KEY):
     """Monic rows with unlike leads, whose sums are just what is MADE of the book on so many places."""
     field, kinds, sayings = book
     pivots = {}
     for width, terms in sayings:
         for places in combinations(range(many), width):
-            row = reduce_row(field, pivots, carry_row(row_of(terms), places))
+            row = reduce_row(field, pivots, carry_row(row_of(terms), places), key)
             if row:
-                lead = max(row, key=UNKNOWN_KEY)
-                factor = value_in(field, 1 / row[lead]) if not field else Fraction(pow(int(row[lead]), -1, field))
+                lead = max(row, key=key)
+                factor = inverted(field, row[lead])
                 pivots[lead] = {unknown: value_in(field, coef * factor) for unknown, coef in row.items()}
     return pivots
+
+
+def new_leads(book, many, older, key=UNKNOWN_KEY):
+    """Members of just so many places, as the document tells; `older` are the leads of fewer places."""
+    pivots = made_pivots(book, many, key)
+    found = []
+    for lead in sorted(pivots, key=key):
+        if not is_reached(older, many, lead):
+            others = {unknown: row for unknown, row in pivots.items() if unknown != lead}
+            found.append((lead, (many, whole_terms(book[0], reduce_row(book[0], others, pivots[lead], key)))))
+    return found
+
+
+def is_reached(leads, many, unknown):
+    """Whether one of the leads (MANY, UNKNOWN) can be carried to an unknown on so many places."""
+    return any(kind == unknown[0] and can_be_carried(width, places, many, unknown[1])
+               for width, (kind, places) in leads)
+
+
+def closed_list(book, most=6, ahead=()):
+    """Members with at most so many places, and their leads, found by elimination on each number of places."""
+    leads = []
+    members = []
+    for many in range(most + 1):
+        for lead, member in new_leads(book, many, leads, key_with(ahead)):
+            leads.append((many, lead))
+            members.append(member)
+    return tuple(members), leads
 
 
 def is_made(book, many, terms):
@@ -189,3 +221,24 @@ def kept_table(book, many, rnd):
         else:
             at[unknown] = Fraction(*some_number(field, rnd))
     return tuple(number(at[unknown]) for unknown in unknowns(kinds, many))
+
+
+def parts_row(book, many, parts):
+    """The sum of the numbers times the carried sayings."""
+    row = {}
+    for number_told, at, places in parts:
+        width, terms = book[2][at]
+        assert len(places) == width and set(places) <= set(range(many)) and tuple(sorted(set(places))) == places
+        row = add_rows(book[0], row, carry_row(row_of(terms), places), Fraction(*number_told))
+    return row
+
+
+def something_made(book, many, rnd, turns=4):
+    """TERMS that are a sum of some carried sayings, times some integers."""
+    row = {}
+    sayings = [(width, terms) for width, terms in book[2] if width <= many]
+    for _ in range(turns if sayings else 0):
+        width, terms = rnd.choice(sayings)
+        places = tuple(sorted(rnd.sample(range(many), width)))
+        row = add_rows(book[0], row, carry_row(row_of(terms), places), some_coef(book[0], rnd))
+    return terms_of(row)

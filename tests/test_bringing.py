@@ -29,24 +29,23 @@ def map_to(saying, many, unknown):
     return min(maps) if maps else None
 
 
-def plainly_brought(book, many, terms):
-    """The work of [20], step by step."""
+def plainly_worked_on(book, many, row):
+    """The work of [20], step by step; what is left as it is before it is made whole."""
     field, _, sayings = book
-    row = plain.row_of(terms)
     while True:
         steps = [(unknown, saying, map_to(saying, many, unknown)) for unknown in row for saying in sayings
                  if map_to(saying, many, unknown) is not None]
         if not steps:
-            return plain.whole_terms(field, row)
+            return row
         greatest = max((unknown for unknown, _, _ in steps), key=plain.UNKNOWN_KEY)
         _, saying, chosen = [step for step in steps if step[0] == greatest][0]
         taken = plain.carry_row(plain.row_of(saying[1]), chosen)
-        factor = plain.value_in(field, -row[greatest] * inverted(field, taken[greatest]))
+        factor = plain.value_in(field, -row[greatest] * plain.inverted(field, taken[greatest]))
         row = plain.add_rows(field, row, taken, factor)
 
 
-def inverted(field, number):
-    return Fraction(pow(int(number), -1, field)) if field else 1 / number
+def plainly_brought(book, many, terms):
+    return plain.whole_terms(book[0], plainly_worked_on(book, many, plain.row_of(terms)))
 
 
 def plain_overlaps(book):
@@ -76,7 +75,7 @@ def plain_overlap(field, saying, less):
     rows = []
     for one in (saying, less):
         row = plain.carry_row(plain.row_of(one[1]), map_to(one, many, unknown))
-        factor = inverted(field, row[unknown])
+        factor = plain.inverted(field, row[unknown])
         rows.append({other: plain.value_in(field, coef * factor) for other, coef in row.items()})
     return (many, plain.whole_terms(field, plain.add_rows(field, rows[0], rows[1], -1)))
 

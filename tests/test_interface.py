@@ -26,6 +26,17 @@ INTERFACE = {
     "formulas": ("formula_of(rows, arity)", "value_at(formula, many)", "formula_plus(one, other)",
                  "formula_minus(one, other)", "equal_from(one, other)"),
     "bringing": ("brought(book, many, terms)", "overlaps(book)", "is_closed(book)"),
+    "closing": ("closed_book(book)", "closed_hidden(book, hidden)", "closing_after(book, steps)"),
+    "making": ("made_of(book, many, terms)", "is_made_of(book, many, terms, value)"),
+    "papers": ("closed_paper(book)", "is_closed_paper(book, value)"),
+    "free": ("lead_rows(book)", "free_at(book, many)", "free_formula(book)", "solved(book, many, numbers)",
+             "basis(book, many)"),
+    "following": ("holds_at(book, saying, many)", "holds_from(book, saying)", "breaking(book, saying, many)",
+                  "is_breaking(book, saying, many, value)"),
+    "showing": ("shown(book, saying, many, places)", "is_shown(book, saying, many, places, value)",
+                "holding_paper(book, saying)", "is_holding_paper(book, saying, value)"),
+    "hiding": ("seen_book(book, hidden)", "comes_from(book, hidden, many, table)",
+               "is_come_from(book, hidden, many, table, value)", "seen_part(book, hidden, many, table)"),
 }
 
 
