@@ -4,7 +4,7 @@ from risingsays.bringing import Leads, meeting_coefs, meetings, whole_of_numbers
 from risingsays.checks import is_within, need_rising
 from risingsays.errors import BadParameter, TooGreat
 from risingsays.numbers import ONE, product_of, quotient_of
-from risingsays.sayings import MOST_WIDTH, made_whole, need_book, need_few_sayings, rank_with, term_rank
+from risingsays.sayings import MOST_WIDTH, in_order, made_whole, need_book, need_few_sayings, rank_with
 
 MOST_LEVEL = 12
 MOST_STEPS = 5000
@@ -86,7 +86,7 @@ class Search:
 
     def written(self, terms):
         """Return terms as they are always written, whole."""
-        return made_whole(self.field, tuple(sorted(terms, key=term_rank, reverse=True)))
+        return made_whole(self.field, in_order(terms))
 
     def step(self):
         """Do one step; nothing at the end."""

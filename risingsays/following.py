@@ -32,7 +32,7 @@ def breaking(book, saying, many):
     need_breakable(book, saying, many)
     if holds(saying, start_of(book, saying), many):
         raise NoRow()
-    return table_that_breaks(book, saying, many)
+    return table_that_breaks(book, closed_search(book, ()).leads, saying, many)
 
 
 def is_breaking(book, saying, many, value):
@@ -71,7 +71,15 @@ def start_of(book, saying):
         search = closed_search(one, ())
         need_few_sayings(search.members)
         formulas.append(formula_of_free(kinds, search))
-    start = equal_from(formulas[0], formulas[1])
+    return start_by(saying, formulas[0], formulas[1])
+
+
+def start_by(saying, free, freed):
+    """Return from where on a saying holds, None if from nowhere on.
+
+    `free` is the formula of the free unknowns of the book, `freed` that of the book with the saying.
+    """
+    start = equal_from(free, freed)
     if start is None:
         return None
     # On fewer places the saying says nothing, so that as many unknowns are free there as without it.
@@ -83,9 +91,8 @@ def holds(saying, start, many):
     return many < saying[0] or (start is not None and start <= many)
 
 
-def table_that_breaks(book, saying, many):
-    """Return a table that keeps the book and not the saying, which doesn't hold there."""
-    leads = closed_search(book, ()).leads
+def table_that_breaks(book, leads, saying, many):
+    """Return a table that keeps the book, whose closed list has these leads, and not the saying, which doesn't hold."""
     for places in rising_maps(saying[0], many):
         left, _ = worked_on(book[0], leads, many, carry(saying[1], places))
         if len(left) > 0:

@@ -11,14 +11,9 @@ from risingsays.tables import need_numbers, need_room, numbers_at, wrong_in_tabl
 
 def seen_book(book, hidden):
     """Return the book of the seen kinds with the closed list of all that holds of them alone."""
-    field, kinds, _ = need_book(book)
-    need_hidden(kinds, hidden)
-    search = closed_search(book, hidden)
-    # Hidden unknowns are greater: what has a seen one for its lead has seen ones alone.
-    left = [saying for saying, _ in search.members if lead_kind(saying) not in hidden]
-    need_few_sayings(left)
-    seen = seen_kinds(kinds, hidden)
-    return (field, kinds_of(kinds, seen), tuple([(width, renumbered(seen, terms)) for width, terms in left]))
+    need_book(book)
+    need_hidden(book[1], hidden)
+    return left_of_seen(book, hidden)
 
 
 def comes_from(book, hidden, many, table):
@@ -66,6 +61,17 @@ def need_seen_table(book, hidden, many, table):
     seen = (field, kinds_of(kinds, seen_kinds(kinds, hidden)), ())
     need_room(seen, many)
     need_numbers(seen, many, table)
+
+
+def left_of_seen(book, hidden):
+    """Return the same as `seen_book`; the book may have more kinds and sayings than may be handed in."""
+    field, kinds, _ = book
+    search = closed_search(book, hidden)
+    # Hidden unknowns are greater: what has a seen one for its lead has seen ones alone.
+    left = [saying for saying, _ in search.members if lead_kind(saying) not in hidden]
+    need_few_sayings(left)
+    seen = seen_kinds(kinds, hidden)
+    return (field, kinds_of(kinds, seen), tuple([(width, renumbered(seen, terms)) for width, terms in left]))
 
 
 def seen_kinds(kinds, hidden):

@@ -3,7 +3,7 @@
 from itertools import combinations
 from math import comb, gcd
 
-from risingsays.checks import MOST_KINDS, MOST_PLACES
+from risingsays.checks import MOST_PLACES
 from risingsays.checks import is_field, is_map, is_tuple, is_within, wrong_in_kinds
 from risingsays.checks import need_field, need_kinds, need_many, need_rising
 from risingsays.errors import BadBook, BadParameter, BadSaying, BadTerms, TooGreat
@@ -12,6 +12,9 @@ from risingsays.numbers import inverse, is_coef, need_number
 MOST_WIDTH = 6
 MOST_SAYINGS = 60
 MOST_UNKNOWNS = 400
+
+# A book has up to 8 kinds, together with their copies or with the kinds of rules twice as many.
+RANKED_KINDS = 16
 
 # Greater than the rank of each unknown on up to 40 places.
 AHEAD = 1 << 50
@@ -90,7 +93,7 @@ def turned(field, kinds, saying, order):
 def mirrored(field, kinds, saying):
     """Return the saying with its places turned from the last to the first."""
     need_saying(field, kinds, saying)
-    return turn(saying, list(reversed(range(saying[0]))))
+    return mirror(saying)
 
 
 def count_unknowns(kinds, many):
@@ -118,7 +121,7 @@ def rising_maps(width, many):
 def rank(kind, places):
     """Return an integer that is the greater, the greater the unknown is."""
     # The greatest place that just one of two unknowns has is the highest bit in which they differ.
-    return sum([1 << place for place in places]) * MOST_KINDS + kind
+    return sum([1 << place for place in places]) * RANKED_KINDS + kind
 
 
 def unknown_rank(unknown):
@@ -278,4 +281,14 @@ def turn(saying, order):
     """Return a saying that has been checked, each of its places I become order[I]."""
     width, terms = saying
     moved = [(coef, kind, tuple(sorted([order[at] for at in places]))) for coef, kind, places in terms]
-    return (width, tuple(sorted(moved, key=term_rank, reverse=True)))
+    return (width, in_order(moved))
+
+
+def mirror(saying):
+    """Return a saying that has been checked, turned from its last place to its first one."""
+    return turn(saying, list(reversed(range(saying[0]))))
+
+
+def in_order(terms):
+    """Return terms of unlike unknowns as they are written, the greatest unknown first."""
+    return tuple(sorted(terms, key=term_rank, reverse=True))

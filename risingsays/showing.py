@@ -3,6 +3,7 @@
 from math import comb
 
 from risingsays.checks import MOST_PLACES, is_map, is_tuple, is_within, need_many
+from risingsays.closing import closed_search
 from risingsays.errors import BadParameter, NoRow, TooGreat
 from risingsays.following import has_many_maps, is_table_that_breaks, need_both, start_of, table_that_breaks
 from risingsays.making import Maker, makes, need_makeable, need_parts, search_on
@@ -37,7 +38,7 @@ def holding_paper(book, saying):
     lists = [need_parts(maker, many, carry(terms, places)) for places in rising_maps(width, many)]
     table = None
     if many > width:
-        table = table_that_breaks(book, saying, many - 1)
+        table = table_that_breaks(book, closed_search(book, ()).leads, saying, many - 1)
     return (many, tuple(lists), table)
 
 

@@ -22,11 +22,7 @@ def worth(book, many, table, terms):
     need_table(book, many, table)
     field, kinds, _ = book
     need_terms(field, kinds, many, terms)
-    numbers = numbers_at(book, many, table)
-    total = NOUGHT
-    for coef, kind, places in terms:
-        total = sum_of(field, total, product_of(field, (coef, 1), numbers[(kind, places)]))
-    return total
+    return worth_with(field, numbers_at(book, many, table), terms)
 
 
 def first_broken(book, many, table):
@@ -109,6 +105,14 @@ def need_few_maps(book, many):
 def numbers_at(book, many, table):
     """Return a dict with the number of each unknown in a table that has been checked."""
     return {unknown: number for unknown, number in zip(all_unknowns(book[1], many), table)}
+
+
+def worth_with(field, numbers, terms):
+    """Return the number to which terms that have been checked come with these numbers at their unknowns."""
+    total = NOUGHT
+    for coef, kind, places in terms:
+        total = sum_of(field, total, product_of(field, (coef, 1), numbers[(kind, places)]))
+    return total
 
 
 def integers_at(book, many, table):

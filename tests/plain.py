@@ -126,29 +126,39 @@ def inverted(field, number):
     return Fraction(pow(int(number), -1, field)) if field else 1 / number
 
 
-def made_pivots(book, many, key=UNKNOWN_KEY):
-    """Monic rows with unlike leads, whose sums are just what is MADE of the book on so many places."""
-    field, kinds, sayings = book
+def pivots_of(field, rows, key=UNKNOWN_KEY):
+    """Monic rows with unlike leads, whose sums are just those of the rows."""
     pivots = {}
-    for width, terms in sayings:
-        for places in combinations(range(many), width):
-            row = reduce_row(field, pivots, carry_row(row_of(terms), places), key)
-            if row:
-                lead = max(row, key=key)
-                factor = inverted(field, row[lead])
-                pivots[lead] = {unknown: value_in(field, coef * factor) for unknown, coef in row.items()}
+    for row in rows:
+        row = reduce_row(field, pivots, row, key)
+        if row:
+            lead = max(row, key=key)
+            factor = inverted(field, row[lead])
+            pivots[lead] = {unknown: value_in(field, coef * factor) for unknown, coef in row.items()}
     return pivots
 
 
-def new_leads(book, many, older, key=UNKNOWN_KEY):
+def carried_rows(book, many):
+    """All carried sayings on so many places."""
+    return [carry_row(row_of(terms), places) for width, terms in book[2]
+            for places in combinations(range(many), width)]
+
+
+def made_pivots(book, many, key=UNKNOWN_KEY):
+    """Monic rows with unlike leads, whose sums are just what is MADE of the book on so many places."""
+    return pivots_of(book[0], carried_rows(book, many), key)
+
+
+def finished_terms(field, pivots, lead, key=UNKNOWN_KEY):
+    """The whole terms with this lead in which no other unknown is a lead of the rows."""
+    others = {unknown: row for unknown, row in pivots.items() if unknown != lead}
+    return whole_terms(field, reduce_row(field, others, pivots[lead], key))
+
+
+def new_leads(field, pivots, many, older, key=UNKNOWN_KEY):
     """Members of just so many places, as the document tells; `older` are the leads of fewer places."""
-    pivots = made_pivots(book, many, key)
-    found = []
-    for lead in sorted(pivots, key=key):
-        if not is_reached(older, many, lead):
-            others = {unknown: row for unknown, row in pivots.items() if unknown != lead}
-            found.append((lead, (many, whole_terms(book[0], reduce_row(book[0], others, pivots[lead], key)))))
-    return found
+    return [(lead, (many, finished_terms(field, pivots, lead, key))) for lead in sorted(pivots, key=key)
+            if not is_reached(older, many, lead)]
 
 
 def is_reached(leads, many, unknown):
@@ -159,13 +169,56 @@ def is_reached(leads, many, unknown):
 
 def closed_list(book, most=6, ahead=()):
     """Members with at most so many places, and their leads, found by elimination on each number of places."""
+    key = key_with(ahead)
+    return members_of(book[0], lambda many: made_pivots(book, many, key), most, key)
+
+
+def members_of(field, pivots_on, most=6, key=UNKNOWN_KEY):
+    """The same, where `pivots_on` tells for each number of places the rows that are taken for what is MADE."""
     leads = []
     members = []
     for many in range(most + 1):
-        for lead, member in new_leads(book, many, leads, key_with(ahead)):
+        for lead, member in new_leads(field, pivots_on(many), many, leads, key):
             leads.append((many, lead))
             members.append(member)
     return tuple(members), leads
+
+
+def spans(field, pivots, rows):
+    """Whether all rows are sums of the rows with unlike leads."""
+    return not any(reduce_row(field, pivots, row) for row in rows)
+
+
+def told_otherwise(book, rnd):
+    """A book that says the same: in another order, some sayings twice, times numbers, with carried ones besides."""
+    field, kinds, sayings = book
+    found = []
+    for width, terms in sayings:
+        factor = some_coef(field, rnd)
+        found.append((width, terms_of({unknown: value_in(field, coef * factor)
+                                       for unknown, coef in row_of(terms).items()})))
+        if rnd.random() < 0.3:
+            found.append((width, terms))
+        if rnd.random() < 0.5 and width < 5:
+            places = tuple(sorted(rnd.sample(range(width + 1), width)))
+            found.append((width + 1, terms_of(carry_row(row_of(terms), places))))
+    rnd.shuffle(found)
+    return (field, kinds, tuple(found))
+
+
+def mirrored_book(book):
+    """The book with each saying turned about."""
+    field, kinds, sayings = book
+    return (field, kinds, tuple((width, terms_of({(kind, tuple(sorted(width - 1 - at for at in places))): coef
+                                                  for (kind, places), coef in row_of(terms).items()}))
+                                for width, terms in sayings))
+
+
+def unlike_rows(one, other, many):
+    """Which of two books says on so many places what the other one does not: a pair of truth values."""
+    field = one[0]
+    mine, yours = made_pivots(one, many), made_pivots(other, many)
+    return (not spans(field, yours, mine.values()), not spans(field, mine, yours.values()))
 
 
 def is_made(book, many, terms):

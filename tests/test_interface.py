@@ -37,6 +37,19 @@ INTERFACE = {
                 "holding_paper(book, saying)", "is_holding_paper(book, saying, value)"),
     "hiding": ("seen_book(book, hidden)", "comes_from(book, hidden, many, table)",
                "is_come_from(book, hidden, many, table, value)", "seen_part(book, hidden, many, table)"),
+    "pairing": ("follows_all(book, other, many)", "alike_at(book, other, many)", "alike_from(book, other)",
+                "parting(book, other)", "is_parting(book, other, value)", "both(book, other)", "either(book, other)"),
+    "going": ("going(book, more)", "endless(book)", "rest_of(book)", "going_back(book, more)",
+              "going_both(book, ahead, behind)"),
+    "further": ("stuck(book, many, table, more)", "gone_on(book, many, table, more)",
+                "is_gone_on(book, many, table, more, value)"),
+    "rules": ("rule_book(book, rules)", "by_rules(book, rules, many, table)"),
+    "least": ("new_by_width(book)", "least_book(book)", "is_least(book)", "needless(book)", "without(book, lot)"),
+    "orders": ("turned_all(field, kinds, saying)", "exchanged(book, many, table, order)", "is_nameless(book)",
+               "any_order(book)", "naming(book)", "is_naming(book, value)"),
+    "primes": ("at_prime(book, prime)", "is_bad_prime(book, prime)", "bad_primes(book, most)"),
+    "sessions": ("begun(field, kinds)", "need_state(state)", "session_step(state, deed)",
+                 "played(field, kinds, deeds)"),
 }
 
 
